@@ -1,0 +1,1 @@
+"""Doubtbooks: which ways of committing together end alike, whoever falls."""

@@ -1,0 +1,10 @@
+"""The bounds that the other modules keep."""
+
+MAX_PARTICIPANTS = 6
+MAX_DEEDS = 400
+MAX_COME = 3000
+MAX_NODES = 8
+MAX_PRICE = 1000000
+MAX_TRANSACTIONS = 40
+MAX_NAME = 20
+MAX_SITE_ROWS = 200

@@ -1,0 +1,54 @@
+"""Every example of the document, as it stands there."""
+
+import os
+import unittest
+
+from doubtbooks import errors
+
+EXAMPLES = os.path.join(os.path.dirname(os.path.abspath(__file__)), "examples.txt")
+
+
+def read_examples():
+    """Triples (point, code, answer): what is told behind the code, "" if nothing is."""
+    examples = []
+    point = None
+    with open(EXAMPLES, encoding="ascii") as lines:
+        for line in lines.read().split("\n"):
+            if line.startswith("[") and line.endswith("]") and line[1:2].isupper() and line[2:-1].isdigit():
+                point = line[1:-1]
+            elif line.startswith(">>> "):
+                examples.append((point, line[4:], ""))
+            elif line:
+                examples[-1] = (point, examples[-1][1], line)
+    return examples
+
+
+class ExamplesTest(unittest.TestCase):
+
+    def check(self, names, code, answer):
+        if not answer:
+            exec(code, names)
+        elif answer.startswith("raises "):
+            wanted = eval(answer[len("raises "):], dict(vars(errors)))
+            with self.assertRaises(errors.DoubtError) as caught:
+                eval(code, names)
+            self.assertIs(type(caught.exception), type(wanted))
+            self.assertEqual(repr(vars(caught.exception)), repr(vars(wanted)))
+        else:
+            self.assertEqual(repr(eval(code, names)), answer)
+
+    def test_examples(self):
+        names = {}
+        examples = read_examples()
+        for point, code, answer in examples:
+            with self.subTest(point=point, code=code):
+                self.check(names, code, answer)
+
+    def test_no_point_is_left_out(self):
+        points = [point for point, code, answer in read_examples() if answer]
+        counted = {point: points.count(point) for point in points}
+        self.assertEqual(counted, {"A5": 4, "A6": 3, "A7": 7})
+
+
+if __name__ == "__main__":
+    unittest.main()

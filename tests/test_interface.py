@@ -1,0 +1,54 @@
+"""The interface: names, arguments, their order, and the file in which each is defined."""
+
+import ast
+import importlib
+import inspect
+import os
+import unittest
+
+import doubtbooks
+
+PACKAGE = os.path.dirname(os.path.abspath(doubtbooks.__file__))
+
+FUNCTIONS = {
+    "protocols": {
+        "head_error": ["value"], "manner_error": ["value"], "protocol_error": ["value"],
+        "alike_for": ["head", "manner", "many"]},
+    "protocoltexts": {"protocol_text": ["protocol"], "read_protocol": ["value"]},
+}
+
+ERRORS = {
+    "DoubtError": None, "Unfit": [], "BadProtocol": ["error"], "BadText": ["line"], "BadLog": ["line"],
+    "Refused": ["deed"], "TooMany": ["limit"]}
+
+
+def defined_in(module):
+    """The names that are defined at the top of this file by def or class."""
+    with open(os.path.join(PACKAGE, module + ".py"), encoding="ascii") as text:
+        body = ast.parse(text.read()).body
+    return [node.name for node in body if isinstance(node, (ast.FunctionDef, ast.ClassDef))]
+
+
+class InterfaceTest(unittest.TestCase):
+
+    def test_functions(self):
+        for module, functions in FUNCTIONS.items():
+            loaded = importlib.import_module("doubtbooks." + module)
+            for name, arguments in functions.items():
+                self.assertIn(name, defined_in(module))
+                parameters = inspect.signature(getattr(loaded, name)).parameters.values()
+                self.assertEqual([each.name for each in parameters], arguments, name)
+                for each in parameters:
+                    self.assertEqual((each.kind, each.default), (each.POSITIONAL_OR_KEYWORD, each.empty), name)
+
+    def test_errors(self):
+        loaded = importlib.import_module("doubtbooks.errors")
+        for name, fields in ERRORS.items():
+            self.assertIn(name, defined_in("errors"))
+            if fields:
+                parameters = inspect.signature(getattr(loaded, name).__init__).parameters
+                self.assertEqual(list(parameters)[1:], fields)
+
+
+if __name__ == "__main__":
+    unittest.main()
