@@ -15,6 +15,14 @@ FUNCTIONS = {
         "head_error": ["value"], "manner_error": ["value"], "protocol_error": ["value"],
         "alike_for": ["head", "manner", "many"]},
     "protocoltexts": {"protocol_text": ["protocol"], "read_protocol": ["value"]},
+    "knownways": {
+        "presumed_abort": [], "abort_with_work": [], "presumed_commit": [], "commit_with_work": [],
+        "all_forced": ["presumed"]},
+    "standings": {"standing_error": ["protocol", "value"], "start": ["protocol"]},
+    "moving": {
+        "deed_error": ["protocol", "standing", "value"], "open_deeds": ["protocol", "standing"],
+        "after": ["protocol", "standing", "deed"], "led": ["protocol", "deeds"]},
+    "deedtexts": {"run_text": ["deeds"], "read_run": ["value"]},
 }
 
 ERRORS = {
