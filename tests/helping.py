@@ -4,6 +4,10 @@ import copy
 import itertools
 import random
 
+from doubtbooks.errors import DoubtError
+from doubtbooks.moving import after, open_deeds
+from doubtbooks.standings import start
+
 STRENGTHS = ("none", "lazy", "forced")
 ENDS = ("abort", "commit")
 THANKS = ((), ("abort",), ("commit",), ("abort", "commit"))
@@ -67,6 +71,27 @@ def raised(error_class, function, *args, **more):
     return None
 
 
+def outcome(function, *args, **more):
+    """What a call returns, or the class and the fields of the error of the package that it raises."""
+    try:
+        return ("returned", function(*args, **more))
+    except DoubtError as error:
+        return ("raised", error.__class__.__name__, vars(error))
+
+
+def called(case, function, between, **arguments):
+    """The outcome of a call, which has to be the same by place, by name, and again behind another call."""
+    with Unchanged(case, *arguments.values()):
+        first = outcome(function, *arguments.values())
+        shown = repr(first)
+        case.assertEqual(repr(outcome(function, **arguments)), shown)
+        between()
+        turned = {name: arguments[name] for name in reversed(list(arguments))}
+        case.assertEqual(repr(outcome(function, **turned)), shown)
+    case.assertEqual(repr(first), shown)
+    return first
+
+
 class Unchanged:
     """Within it, what is handed in is watched; behind it, it has to be as it was."""
 
@@ -99,6 +124,90 @@ def chosen(choice, deeds):
     if usual and (not rare or choice.random() < 0.75):
         return choice.choice(usual)
     return choice.choice(rare)
+
+
+def walk(protocol, choice, many):
+    """Triples (standing, deed, standing behind it) along a run of at most so many deeds."""
+    standing = start(protocol)
+    for _ in range(many):
+        can = open_deeds(protocol, standing)
+        if not can:
+            return
+        deed = chosen(choice, can)
+        behind = after(protocol, standing, deed)
+        yield standing, deed, behind
+        standing = behind
+
+
+def standings_along(protocol, choice, many):
+    """The standings along a run of at most so many deeds, the start among them."""
+    return [start(protocol)] + [behind for standing, deed, behind in walk(protocol, choice, many)]
+
+
+def levels(protocol, first, deeds_of=open_deeds):
+    """The standings that come from first: a list of sets, those behind no deed, one deed, and so on."""
+    met, found = {first}, [{first}]
+    while found[-1]:
+        found.append(set())
+        for standing in found[-2]:
+            for deed in deeds_of(protocol, standing):
+                behind = after(protocol, standing, deed)
+                if behind not in met:
+                    met.add(behind)
+                    found[-1].add(behind)
+    return found[:-1]
+
+
+def ever_splits(protocol):
+    """Whether any run comes to a split, by going through all standings until one is met."""
+    met, waiting = {start(protocol)}, [start(protocol)]
+    while waiting:
+        standing = waiting.pop()
+        if len(standing[3]) == 2:
+            return True
+        for deed in open_deeds(protocol, standing):
+            behind = after(protocol, standing, deed)
+            if behind not in met:
+                met.add(behind)
+                waiting.append(behind)
+    return False
+
+
+def lacking(head, manner):
+    """The table of words of [D2], read once more."""
+    prepared, committed, aborted, thanks, presumed, sent = manner
+    undoing, unsure = presumed == "abort", sent and prepared != "forced"
+    holds = {
+        "head committed": head[1] != "forced",
+        "prepared": prepared != "forced" and not sent,
+        "committed": committed != "forced" and (undoing or unsure),
+        "thanks commit": "commit" not in thanks and (undoing or unsure),
+        "begun": not undoing and head[0] != "forced",
+        "thanks abort": not undoing and "abort" not in thanks,
+        "aborted": not undoing and aborted != "forced" and prepared != "none",
+    }
+    return tuple(sorted(word for word in holds if holds[word]))
+
+
+def fitting_manners(head):
+    """All manners that lack nothing beside this head."""
+    return [manner for manner in MANNERS if not lacking(head, manner)]
+
+
+FIT = {head: fitting_manners(head) for head in HEADS}
+
+
+def safe_protocols(many, seed, least=2, most=6):
+    """So many safe protocols of unlike participants, the same ones for the same seed."""
+    choice = random.Random(seed)
+    heads = [head for head in HEADS if FIT[head]]
+    # Where commit can be presumed there are more of unlike kinds.
+    heads += [head for head in heads if head[0] == "forced"] * 2
+    protocols = []
+    for _ in range(many):
+        head = choice.choice(heads)
+        protocols.append((head, tuple(choice.choice(FIT[head]) for _ in range(choice.randint(least, most)))))
+    return protocols
 
 
 class Plain:

@@ -47,7 +47,9 @@ class ExamplesTest(unittest.TestCase):
     def test_no_point_is_left_out(self):
         points = [point for point, code, answer in read_examples() if answer]
         counted = {point: points.count(point) for point in points}
-        self.assertEqual(counted, {"A5": 4, "A6": 3, "A7": 7, "A8": 2, "B4": 3, "B5": 4, "B6": 9, "B7": 6})
+        self.assertEqual(counted, {
+            "A5": 4, "A6": 3, "A7": 7, "A8": 2, "B4": 3, "B5": 4, "B6": 9, "B7": 6,
+            "C2": 2, "C3": 4, "C4": 3, "D2": 5, "D3": 6})
 
 
 if __name__ == "__main__":

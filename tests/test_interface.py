@@ -23,6 +23,10 @@ FUNCTIONS = {
         "deed_error": ["protocol", "standing", "value"], "open_deeds": ["protocol", "standing"],
         "after": ["protocol", "standing", "deed"], "led": ["protocol", "deeds"]},
     "deedtexts": {"run_text": ["deeds"], "read_run": ["value"]},
+    "ending": {"is_split": ["standing"], "is_home": ["protocol", "standing"]},
+    "homing": {"way_home": ["protocol", "standing"], "all_fall": ["protocol", "standing", "lost"]},
+    "fitting": {"lacks": ["head", "manner"], "fits": ["head", "manner"], "is_safe": ["protocol"]},
+    "strengthening": {"least_ways": [], "needless": ["protocol"], "fewest_steps": ["protocol"]},
 }
 
 ERRORS = {

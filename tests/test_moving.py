@@ -8,8 +8,8 @@ from doubtbooks.errors import Refused, TooMany
 from doubtbooks.moving import after, deed_error, led, open_deeds
 from doubtbooks.standings import standing_error, start
 from tests.helping import (
-    DONE, ENDS, HEADS, MANNERS, THIN, UNDONE, USUAL, VOTES, Plain, Unchanged, any_values, chosen, raised, same,
-    some_protocols)
+    DONE, ENDS, HEADS, MANNERS, THIN, UNDONE, USUAL, VOTES, Plain, Unchanged, any_values, raised, same, some_protocols,
+    walk)
 
 WORDS = {
     "begin": 0, "yes": 1, "no": 1, "read": 1, "count": 1, "refused": 1, "quit": 0, "thanked": 1, "hear": 2, "ask": 1,
@@ -17,16 +17,6 @@ WORDS = {
 # What is neither a participant nor a number of kept rows, whatever the protocol is.
 NO_NUMBERS = [value for value in any_values() if isinstance(value, bool) or not isinstance(value, int)]
 NO_NUMBERS += [-1, 7, 10 ** 400 - 1, "0", (0,), [0]]
-
-
-def walk(protocol, choice, many):
-    """Triples (standing, deed, standing behind it) along a run of at most so many deeds."""
-    standing = start(protocol)
-    for _ in range(many):
-        deed = chosen(choice, open_deeds(protocol, standing))
-        behind = after(protocol, standing, deed)
-        yield standing, deed, behind
-        standing = behind
 
 
 def built_deeds(size):
