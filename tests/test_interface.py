@@ -27,6 +27,13 @@ FUNCTIONS = {
     "homing": {"way_home": ["protocol", "standing"], "all_fall": ["protocol", "standing", "lost"]},
     "fitting": {"lacks": ["head", "manner"], "fits": ["head", "manner"], "is_safe": ["protocol"]},
     "strengthening": {"least_ways": [], "needless": ["protocol"], "fewest_steps": ["protocol"]},
+    "splitting": {"splitting": ["protocol"], "watched": ["protocol"]},
+    "splitjudge": {"splitting_error": ["protocol", "value"]},
+    "wandering": {
+        "come": ["protocol"], "shortest_split": ["protocol"], "ends_yet": ["protocol", "standing"],
+        "meetings": ["protocol", "wanted"]},
+    "doubting": {
+        "knows_unsaid": ["manner", "phase"], "may_end": ["protocol", "view"], "twins": ["protocol", "view"]},
 }
 
 ERRORS = {
