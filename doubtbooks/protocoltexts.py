@@ -7,17 +7,17 @@ from doubtbooks.protocols import head_error, manner_error
 THANKS_BY_WORD = {"none": (), "abort": ("abort",), "commit": ("commit",), "both": ("abort", "commit")}
 
 
-def thanks_word(thanks):
-    """The word for these thanks."""
-    if len(thanks) == 2:
+def ends_word(ends):
+    """The word for these ends."""
+    if len(ends) == 2:
         return "both"
-    return thanks[0] if thanks else "none"
+    return ends[0] if ends else "none"
 
 
 def manner_line(manner):
     """The line of a participant that goes by this manner."""
     prepared, committed, aborted, thanks, presumed, sent = manner
-    line = f"manner {prepared} {committed} {aborted} thanks {thanks_word(thanks)} presumed {presumed}"
+    line = f"manner {prepared} {committed} {aborted} thanks {ends_word(thanks)} presumed {presumed}"
     return line + " sent" if sent else line
 
 

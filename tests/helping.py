@@ -221,6 +221,8 @@ class Plain:
         self.logs = [[] for _ in self.all]
         self.sures = [0 for _ in self.all]
         self.letters, self.told = set(), set()
+        # What [I3] counts: triples (site, row, strength), letters as often as they are sent, works.
+        self.rows, self.sent, self.works = [], 0, 0
 
     def standing(self):
         coordinator = (self.phase, tuple(self.log), self.sure, tuple(sorted(self.heard)))
@@ -266,21 +268,34 @@ class Plain:
             return self.phases[i] == "blank" and self.manners[i][5] and self.phase in ("voting", "unknown")
         return self.phases[i] not in ("blank", "out")
 
+    def costs(self):
+        """What [I3] tells of all that was done so far."""
+        own = [strength for site, row, strength in self.rows if site == 0]
+        theirs = [strength for site, row, strength in self.rows if site > 0]
+        return (own.count("forced"), own.count("lazy"), theirs.count("forced"), theirs.count("lazy"), self.sent,
+                self.works)
+
+    def send(self, *letters):
+        self.letters |= set(letters)
+        self.sent += len(letters)
+
     def write(self, row, strength):
         if strength != "none":
             self.log.append(row)
+            self.rows.append((0, row, strength))
         if strength == "forced":
             self.sure = len(self.log)
 
     def write_at(self, i, row, strength):
         if strength != "none":
             self.logs[i].append(row)
+            self.rows.append((i + 1, row, strength))
         if strength == "forced":
             self.sures[i] = len(self.logs[i])
 
     def forget(self):
         if self.log:
-            self.log.append("ended")
+            self.write("ended", "lazy")
         self.heard, self.phase = set(), "unknown"
 
     def decide(self, end):
@@ -288,7 +303,7 @@ class Plain:
         if row not in self.log:
             self.write(row, strength)
         self.told.add(end)
-        self.letters |= {(i, end) for i in self.all}
+        self.send(*[(i, end) for i in self.all])
         self.heard, self.phase = set(), "committing" if end == "commit" else "aborting"
         if not any(end in manner[3] for manner in self.manners):
             self.forget()
@@ -298,21 +313,22 @@ class Plain:
 
     def do_begin(self):
         self.write("begun", self.head[0])
-        self.letters |= {(i, "prepare") for i in self.all}
+        self.send(*[(i, "prepare") for i in self.all])
         self.phase = "voting"
 
     def do_yes(self, i):
         self.write_at(i, "prepared", self.manners[i][0])
-        self.letters.add((i, "yes"))
+        self.send((i, "yes"))
+        self.works += self.manners[i][5]
         self.phases[i] = "prepared"
 
     def do_no(self, i):
-        self.letters.add((i, "no"))
+        self.send((i, "no"))
         self.phases[i] = "aborted"
         self.told.add("abort")
 
     def do_read(self, i):
-        self.letters.add((i, "yes"))
+        self.send((i, "yes"))
         self.phases[i] = "out"
 
     def do_count(self, i):
@@ -340,10 +356,10 @@ class Plain:
             self.told.add(end)
             self.phases[i] = row
         if end in self.manners[i][3]:
-            self.letters.add((i, row))
+            self.send((i, row))
 
     def do_ask(self, i):
-        self.letters.add((i, self.manners[i][4]))
+        self.send((i, self.manners[i][4]))
 
     def do_restore(self, i):
         if self.phase == "unknown":
@@ -367,4 +383,262 @@ class Plain:
         rows = [row for row in ("committed", "aborted", "prepared") if row in self.logs[i]]
         self.phases[i] = rows[0] if rows else "blank"
         if not rows and not self.manners[i][5]:
+            self.told.add("abort")
+
+
+def shapes(many):
+    """All ways to put so many nodes below a root: tuples of the nodes above them."""
+    return list(itertools.product(*[range(node) for node in range(1, many + 1)]))
+
+
+def drawn_entry(choice, upper, is_middle, sound):
+    """An entry of a node; each part that matters is right as often as sound tells, from 0 to 1."""
+    def strength(forced):
+        return "forced" if forced and choice.random() < sound else choice.choice(STRENGTHS)
+
+    presumed = choice.choice(ENDS)
+    needed = "commit" if presumed == "abort" else "abort"
+    thanks = choice.choice([each for each in THANKS if needed in each] if choice.random() < sound else THANKS)
+    rows = (strength(True), strength(presumed == "abort"), strength(presumed == "commit"))
+    begun = strength(True) if is_middle else "none"
+    return (upper, begun, *rows, thanks, presumed, is_middle and choice.random() < 0.5)
+
+
+def drawn_tree(choice, uppers, sound):
+    """A tree of this shape."""
+    head = tuple("forced" if choice.random() < sound else choice.choice(STRENGTHS) for _ in range(3))
+    return (head, tuple(drawn_entry(choice, upper, node in uppers, sound) for node, upper in enumerate(uppers, 1)))
+
+
+def some_trees(many, seed, least=1, most=7, sounds=(0, 0.6, 0.9, 0.97)):
+    """So many trees of all shapes, the same ones for the same seed."""
+    choice = random.Random(seed)
+    trees = []
+    for _ in range(many):
+        uppers = tuple(choice.randrange(node) for node in range(1, choice.randint(least, most) + 1))
+        trees.append(drawn_tree(choice, uppers, choice.choice(sounds)))
+    return trees
+
+
+def edge_lacking(tree, node):
+    """The words of [J3], read once more."""
+    head, entries = tree
+    upper, _, prepared, committed, aborted, thanks, presumed, _ = entries[node - 1]
+    begun = head[0] if upper == 0 else entries[upper - 1][1]
+    holds = {
+        "prepared": prepared != "forced",
+        "committed": presumed == "abort" and committed != "forced",
+        "thanks commit": presumed == "abort" and "commit" not in thanks,
+        "begun": presumed == "commit" and begun != "forced",
+        "aborted": presumed == "commit" and aborted != "forced",
+        "thanks abort": presumed == "commit" and "abort" not in thanks,
+    }
+    return tuple(sorted(word for word in holds if holds[word]))
+
+
+def is_sound_tree(tree):
+    """[J4], read once more: whether a tree is safe."""
+    (begun, committed, aborted), entries = tree
+    wrong = {node for node in range(1, len(entries) + 1) if edge_lacking(tree, node)}
+    if committed == "forced" and not wrong:
+        return True
+    first = entries[0]
+    return ([entry[0] for entry in entries].count(0) == 1 and wrong <= {1} and first[6] == "commit"
+            and first[2] == first[4] == aborted == "forced" and "abort" in first[5]
+            and (begun == "none" or committed == "forced"))
+
+
+def safe_trees(many, seed, least=1, most=7):
+    """So many safe trees of all shapes, the same ones for the same seed."""
+    found = [tree for tree in some_trees(40 * many, seed, least, most, (0.97, 1)) if is_sound_tree(tree)]
+    return found[:many]
+
+
+class PlainTree:
+    """A transaction in a tree, kept in lists and sets that are changed in place: [J5] and [J6], read once more."""
+
+    def __init__(self, tree):
+        self.head, entries = tree
+        self.entry = (None,) + entries
+        self.nodes = range(len(self.entry))
+        self.phase = ["idle"] + ["active"] * len(entries)
+        self.log = [[] for _ in self.nodes]
+        self.sure = [0 for _ in self.nodes]
+        self.heard = [set() for _ in self.nodes]
+        self.letters, self.told = set(), set()
+        self.kids = [{k for k in self.nodes if k and self.entry[k][0] == u} for u in self.nodes]
+
+    def standing(self):
+        sites = tuple((self.phase[k], tuple(self.log[k]), self.sure[k], tuple(sorted(self.heard[k]))) for k in self.nodes)
+        return (sites, tuple(sorted(self.letters)), tuple(sorted(self.told)))
+
+    def thanks(self, i, end):
+        return i > 0 and end in self.entry[i][5]
+
+    def thanks_there(self, i, end):
+        return (i, {"commit": "committed", "abort": "aborted"}[end]) in self.letters
+
+    def all_deeds(self):
+        yield ("begin",)
+        for word in ("forward", "yes", "no", "count", "refused", "quit", "thanked", "ask"):
+            yield from ((word, i) for i in self.nodes)
+        yield from (("hear", i, end) for i in self.nodes for end in ENDS)
+        yield from (("fall", i, kept) for i in self.nodes for kept in range(self.sure[i], len(self.log[i]) + 1))
+
+    def can(self, deed):
+        if deed[0] == "begin":
+            return self.phase[0] == "idle"
+        word, i = deed[:2]
+        phase = self.phase[i]
+        if word == "quit":
+            return phase == "voting"
+        if word == "fall":
+            return phase not in ("idle", "blank")
+        if i == 0:
+            return False
+        u, late = self.entry[i][0], self.entry[i][7]
+        if word in ("forward", "yes", "no"):
+            return phase == "active" and (i, "prepare") in self.letters and (word == "forward") == bool(self.kids[i])
+        if word == "count":
+            return self.phase[u] == "voting" and (i, "yes") in self.letters and i not in self.heard[u]
+        if word == "refused":
+            return self.phase[u] == "voting" and (i, "no") in self.letters
+        if word == "thanked":
+            end = {"committing": "commit", "aborting": "abort"}.get(self.phase[u])
+            return end is not None and self.thanks(i, end) and self.thanks_there(i, end) and i not in self.heard[u]
+        if word == "ask":
+            return (phase == "prepared" and self.phase[u] in ("unknown", "blank")
+                    and (i, self.entry[i][6]) not in self.letters)
+        end = deed[2]
+        if (i, end) not in self.letters:
+            return False
+        if phase == "prepared" or (end == "abort" and phase in ("active", "voting")):
+            return True
+        waiting = late and (phase, end) in (("committing", "commit"), ("aborting", "abort"))
+        return (self.thanks(i, end) and not self.thanks_there(i, end) and phase not in ("active", "voting")
+                and not waiting)
+
+    def write(self, i, row, strength=None):
+        if row in self.log[i]:
+            return
+        if strength is None:
+            if i == 0:
+                strength = self.head[("begun", "committed", "aborted").index(row)]
+            else:
+                strength = self.entry[i][1 + ("begun", "prepared", "committed", "aborted").index(row)]
+        if strength != "none":
+            self.log[i].append(row)
+        if strength == "forced":
+            self.sure[i] = len(self.log[i])
+
+    def thank(self, i, end):
+        if self.thanks(i, end):
+            self.letters.add((i, {"commit": "committed", "abort": "aborted"}[end]))
+
+    def forget(self, i):
+        if self.log[i]:
+            self.write(i, "ended", "lazy")
+        self.heard[i], self.phase[i] = set(), "unknown"
+
+    def give_up(self, i):
+        if i:
+            self.letters.add((i, "no"))
+        self.end(i, "abort")
+
+    def end(self, i, end):
+        row = {"commit": "committed", "abort": "aborted"}[end]
+        if not self.kids[i]:
+            if end == "commit" or self.phase[i] == "prepared":
+                self.write(i, row)
+            self.told.add(end)
+            self.phase[i] = row
+            self.thank(i, end)
+            return
+        self.write(i, row)
+        self.told.add(end)
+        self.heard[i] = set()
+        self.phase[i] = {"commit": "committing", "abort": "aborting"}[end]
+        self.letters |= {(k, end) for k in self.kids[i]}
+        if i and not self.entry[i][7]:
+            self.thank(i, end)
+        if not any(self.thanks(k, end) for k in self.kids[i]):
+            self.thank(i, end)
+            self.forget(i)
+
+    def do(self, deed):
+        getattr(self, "do_" + deed[0])(*deed[1:])
+
+    def do_begin(self):
+        self.do_forward(0)
+
+    def do_forward(self, i):
+        self.write(i, "begun")
+        self.letters |= {(k, "prepare") for k in self.kids[i]}
+        self.phase[i] = "voting"
+
+    def do_yes(self, i):
+        self.write(i, "prepared")
+        self.letters.add((i, "yes"))
+        self.phase[i] = "prepared"
+
+    def do_no(self, i):
+        self.letters.add((i, "no"))
+        self.told.add("abort")
+        self.phase[i] = "aborted"
+
+    def do_count(self, i):
+        u = self.entry[i][0]
+        self.heard[u].add(i)
+        if self.heard[u] == self.kids[u]:
+            if u == 0:
+                self.end(u, "commit")
+            else:
+                self.write(u, "prepared")
+                self.letters.add((u, "yes"))
+                self.heard[u], self.phase[u] = set(), "prepared"
+
+    def do_refused(self, i):
+        self.give_up(self.entry[i][0])
+
+    def do_quit(self, i):
+        self.give_up(i)
+
+    def do_hear(self, i, end):
+        if self.phase[i] == "prepared" or (end == "abort" and self.phase[i] in ("active", "voting")):
+            self.end(i, end)
+        else:
+            self.thank(i, end)
+
+    def do_thanked(self, i):
+        u = self.entry[i][0]
+        end = "commit" if self.phase[u] == "committing" else "abort"
+        self.heard[u].add(i)
+        if self.heard[u] == {k for k in self.kids[u] if self.thanks(k, end)}:
+            self.thank(u, end)
+            self.forget(u)
+
+    def do_ask(self, i):
+        self.letters.add((i, self.entry[i][6]))
+
+    def do_fall(self, i, kept):
+        self.log[i], self.sure[i], self.heard[i] = self.log[i][:kept], kept, set()
+        rows = self.log[i]
+        if "ended" in rows:
+            self.phase[i] = "unknown"
+        elif "committed" in rows and self.kids[i]:
+            self.end(i, "commit")
+        elif "committed" in rows:
+            self.phase[i] = "committed"
+        elif "aborted" in rows and self.kids[i]:
+            self.end(i, "abort")
+        elif "aborted" in rows:
+            self.phase[i] = "aborted"
+        elif "prepared" in rows:
+            self.phase[i] = "prepared"
+        elif "begun" in rows:
+            self.give_up(i)
+        elif i == 0:
+            self.phase[i] = "unknown"
+        else:
+            self.phase[i] = "blank"
             self.told.add("abort")

@@ -49,7 +49,8 @@ class ExamplesTest(unittest.TestCase):
         counted = {point: points.count(point) for point in points}
         self.assertEqual(counted, {
             "A5": 4, "A6": 3, "A7": 7, "A8": 2, "B4": 3, "B5": 4, "B6": 9, "B7": 6,
-            "C2": 2, "C3": 4, "C4": 3, "D2": 5, "D3": 6, "E2": 5, "E3": 4, "F2": 11, "H2": 4, "H3": 2})
+            "C2": 2, "C3": 4, "C4": 3, "D2": 5, "D3": 6, "E2": 5, "E3": 4, "F2": 11, "H2": 4, "H3": 2,
+            "I2": 3, "I3": 3, "I4": 5, "J2": 2, "J3": 5})
 
 
 if __name__ == "__main__":

@@ -34,6 +34,12 @@ FUNCTIONS = {
         "meetings": ["protocol", "wanted"]},
     "doubting": {
         "knows_unsaid": ["manner", "phase"], "may_end": ["protocol", "view"], "twins": ["protocol", "view"]},
+    "costs": {"plain_run": ["protocol", "end", "readers"], "counts": ["protocol", "deeds"]},
+    "prices": {
+        "price": ["protocol", "prices", "commits", "aborts"], "cheapest": ["prices", "many", "commits", "aborts"],
+        "commits_for": ["prices", "many", "aborts"]},
+    "trees": {"tree_error": ["value"], "below": ["tree", "node"]},
+    "treefitting": {"edge_lacks": ["tree", "node"], "is_safe_tree": ["tree"]},
 }
 
 ERRORS = {
