@@ -7,6 +7,7 @@ import random
 from doubtbooks.errors import DoubtError
 from doubtbooks.moving import after, open_deeds
 from doubtbooks.standings import start
+from doubtbooks.treemoving import after_tree, open_tree, start_tree
 
 STRENGTHS = ("none", "lazy", "forced")
 ENDS = ("abort", "commit")
@@ -454,6 +455,33 @@ def safe_trees(many, seed, least=1, most=7):
     return found[:many]
 
 
+def tree_walk(tree, choice, many):
+    """Triples (standing, deed, standing behind it) along a run of at most so many deeds in a tree."""
+    standing = start_tree(tree)
+    for _ in range(many):
+        can = open_tree(tree, standing)
+        if not can:
+            return
+        deed = chosen(choice, can)
+        behind = after_tree(tree, standing, deed)
+        yield standing, deed, behind
+        standing = behind
+
+
+def tree_levels(tree):
+    """All standings of a tree that come from its start: a list of sets, as levels tells of protocols."""
+    met, found = {start_tree(tree)}, [{start_tree(tree)}]
+    while found[-1]:
+        found.append(set())
+        for standing in found[-2]:
+            for deed in open_tree(tree, standing):
+                behind = after_tree(tree, standing, deed)
+                if behind not in met:
+                    met.add(behind)
+                    found[-1].add(behind)
+    return found[:-1]
+
+
 class PlainTree:
     """A transaction in a tree, kept in lists and sets that are changed in place: [J5] and [J6], read once more."""
 
@@ -467,6 +495,15 @@ class PlainTree:
         self.heard = [set() for _ in self.nodes]
         self.letters, self.told = set(), set()
         self.kids = [{k for k in self.nodes if k and self.entry[k][0] == u} for u in self.nodes]
+
+    def load(self, standing):
+        """Goes on from this standing."""
+        sites, letters, told = standing
+        self.phase = [site[0] for site in sites]
+        self.log = [list(site[1]) for site in sites]
+        self.sure = [site[2] for site in sites]
+        self.heard = [set(site[3]) for site in sites]
+        self.letters, self.told = set(letters), set(told)
 
     def standing(self):
         sites = tuple((self.phase[k], tuple(self.log[k]), self.sure[k], tuple(sorted(self.heard[k]))) for k in self.nodes)
@@ -642,3 +679,74 @@ class PlainTree:
         else:
             self.phase[i] = "blank"
             self.told.add("abort")
+
+
+class PlainManager:
+    """Many transactions kept in lists and dicts that are changed in place: [K1] and [K2], read once more."""
+
+    RULE = ("begin", "quit", "hear", "thanked", "ask", "restore", "no")
+
+    def __init__(self, protocol):
+        self.protocol = protocol
+        self.plains, self.deeds, self.sites = {}, {}, [[[], 0] for _ in range(len(protocol[1]) + 1)]
+
+    def enter(self, name):
+        self.plains[name], self.deeds[name] = Plain(self.protocol), []
+
+    def step(self, name, deed):
+        """The deed is done by this transaction alone; what it writes goes behind the logs of the sites."""
+        plain = self.plains[name]
+        plain.rows.clear()
+        plain.do(deed)
+        self.deeds[name].append(deed)
+        for site, row, strength in plain.rows:
+            self.sites[site][0].append((name, row))
+            if strength == "forced":
+                self.sites[site][1] = len(self.sites[site][0])
+
+    def settle(self):
+        """How much of each log is sure is told by the logs of the sites."""
+        for name, plain in self.plains.items():
+            sures = [[owner for owner, row in rows[:sure]].count(name) for rows, sure in self.sites]
+            plain.sure, plain.sures = sures[0], sures[1:]
+
+    def do(self, name, deed):
+        self.step(name, deed)
+        self.settle()
+
+    def fall(self, site, kept):
+        self.sites[site] = [self.sites[site][0][:kept], kept]
+        for name, plain in self.plains.items():
+            own = [owner for owner, row in self.sites[site][0]].count(name)
+            deed = ("fall", site - 1, own) if site else ("stop", own)
+            if plain.can(deed):
+                self.step(name, deed)
+        self.settle()
+
+    def waits(self, plain):
+        waiting = ("active", "prepared")
+        return plain.phase != "unknown" or any(
+            plain.phases[i] in waiting or plain.phases[i] == "blank" and plain.manners[i][5] for i in plain.all)
+
+    def go_home(self):
+        many = 0
+        for name, plain in self.plains.items():
+            while self.waits(plain):
+                can = [deed for deed in plain.all_deeds() if plain.can(deed)]
+                word = [word for word in self.RULE if word in [deed[0] for deed in can]][0]
+                self.step(name, min(deed for deed in can if deed[0] == word))
+                many += 1
+        self.settle()
+        return many
+
+    def shown(self):
+        """All that a manager tells of itself."""
+        return (tuple(self.plains), {name: (plain.standing(), tuple(self.deeds[name])) for name, plain in self.plains.items()},
+                [(tuple(rows), sure) for rows, sure in self.sites],
+                tuple(sorted(name for name, plain in self.plains.items() if len(plain.told) == 2)))
+
+
+def shown(manager):
+    """All that a manager tells of itself."""
+    return (manager.names, {name: (manager.standing_of(name), manager.deeds_of(name)) for name in manager.names},
+            [manager.log_of(site) for site in range(len(manager.protocol[1]) + 1)], manager.split_names())

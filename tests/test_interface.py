@@ -40,6 +40,18 @@ FUNCTIONS = {
         "commits_for": ["prices", "many", "aborts"]},
     "trees": {"tree_error": ["value"], "below": ["tree", "node"]},
     "treefitting": {"edge_lacks": ["tree", "node"], "is_safe_tree": ["tree"]},
+    "treemoving": {
+        "start_tree": ["tree"], "open_tree": ["tree", "standing"], "after_tree": ["tree", "standing", "deed"],
+        "led_tree": ["tree", "deeds"]},
+    "treesplits": {"splitting_tree": ["tree"], "splitting_tree_error": ["tree", "value"]},
+    "managerlogs": {"site_text": ["rows", "sure"], "read_site": ["value"]},
+}
+
+CLASSES = {
+    "managers": {"Manager": {
+        "__init__": ["protocol"], "enter": ["name"], "do": ["name", "deed"], "fall": ["site", "kept"], "go_home": [],
+        "standing_of": ["name"], "deeds_of": ["name"], "log_of": ["site"], "split_names": [], "twin": []}},
+    "shells": {"Shell": {"__init__": [], "say": ["line"]}},
 }
 
 ERRORS = {
@@ -65,6 +77,18 @@ class InterfaceTest(unittest.TestCase):
                 self.assertEqual([each.name for each in parameters], arguments, name)
                 for each in parameters:
                     self.assertEqual((each.kind, each.default), (each.POSITIONAL_OR_KEYWORD, each.empty), name)
+
+    def test_methods_stand_in_their_class(self):
+        for module, classes in CLASSES.items():
+            loaded = importlib.import_module("doubtbooks." + module)
+            for name, methods in classes.items():
+                self.assertIn(name, defined_in(module))
+                own = vars(getattr(loaded, name))
+                for method, arguments in methods.items():
+                    parameters = list(inspect.signature(own[method]).parameters.values())
+                    self.assertEqual([each.name for each in parameters[1:]], arguments, method)
+                    for each in parameters:
+                        self.assertEqual((each.kind, each.default), (each.POSITIONAL_OR_KEYWORD, each.empty), method)
 
     def test_errors(self):
         loaded = importlib.import_module("doubtbooks.errors")
