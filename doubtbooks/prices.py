@@ -44,7 +44,6 @@ def price(protocol, prices, commits, aborts):
 
 def cheapest(prices, many, commits, aborts):
     """One of the least ways that cost least for so many participants, and what it costs."""
-    check_prices(prices, commits, aborts)
     check_many(many)
     pairs = []
     for head, manner in least_ways():

@@ -13,12 +13,15 @@ from doubtbooks.protocoltexts import ends_word, read_protocol
 
 MOST_FIGURES = 3
 
-WAYS = {
-    "presumed_abort": presumed_abort,
-    "abort_with_work": abort_with_work,
-    "presumed_commit": presumed_commit,
-    "commit_with_work": commit_with_work,
-}
+
+def known_ways():
+    """The ways that can be told by a word, by these words."""
+    return {
+        "presumed_abort": presumed_abort(),
+        "abort_with_work": abort_with_work(),
+        "presumed_commit": presumed_commit(),
+        "commit_with_work": commit_with_work(),
+    }
 
 
 def joined(words, sign):
@@ -37,10 +40,9 @@ def answer_protocol(shell, text):
     return renew(shell, read_protocol(text))
 
 
-def answer_way(shell, word, many):
+def answer_way(shell, way, many):
     """A new manager by a known way."""
-    known = WAYS[word]
-    head, manner = known()
+    head, manner = way
     return renew(shell, alike_for(head, manner, many))
 
 
@@ -67,7 +69,8 @@ def answer_fall(shell, site, kept):
 
 def answer_home(shell):
     """All go home."""
-    return f"{shell.manager.go_home()} deeds"
+    many = shell.manager.go_home()
+    return f"{many} deeds"
 
 
 def answer_state(shell, name):
@@ -177,7 +180,7 @@ def read_item(kind, word):
     if kind == "name":
         return word if is_name(word) else None
     if kind == "way":
-        return word if word in WAYS else None
+        return known_ways().get(word)
     if kind == "end":
         return word if word in ENDS else None
     return word

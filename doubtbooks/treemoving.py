@@ -6,8 +6,9 @@ from doubtbooks.errors import Refused, TooMany, Unfit
 from doubtbooks.kinds import is_integer_within
 from doubtbooks.protocols import ENDS
 from doubtbooks.treedeeds import done_in_tree, heard_at, is_ended_by, phase_at
-from doubtbooks.trees import above, below, is_late, nodes_of, presumed_for, thanks_for
+from doubtbooks.trees import above, below, is_late, presumed_for, thanks_for
 
+# One place for the items behind each word, as for the deeds of protocols.
 TREE_DEED_SHAPES = {
     "begin": (),
     "forward": ("node",),
@@ -129,35 +130,40 @@ def is_built(tree, standing, value):
     if not isinstance(value, tuple) or not value:
         return False
     word = value[0]
-    if not isinstance(word, str) or word not in TREE_DEED_SHAPES or len(value) != 1 + len(TREE_DEED_SHAPES[word]):
+    if not isinstance(word, str) or word not in TREE_DEED_SHAPES:
         return False
-    if word == "begin":
-        return True
-    if not is_integer_within(value[1], least_node(word), len(tree[1])):
+    shape = TREE_DEED_SHAPES[word]
+    if len(value) != 1 + len(shape):
         return False
-    if word == "fall":
+    if "node" in shape and not is_integer_within(value[1], least_node(word), len(tree[1])):
+        return False
+    if "kept" in shape:
         phase, log, sure, heard = standing[0][value[1]]
         return is_integer_within(value[2], sure, len(log))
-    return word != "hear" or value[2] in ENDS
+    return "end" not in shape or value[2] in ENDS
+
+
+def is_open(tree, standing, deed):
+    """Whether a deed that is built right can be done now."""
+    condition = TREE_CONDITIONS[deed[0]]
+    return condition(tree, standing, deed)
 
 
 def can_be_done(tree, standing, value):
     """Whether value is a deed that can be done in standing."""
-    if not is_built(tree, standing, value):
-        return False
-    condition = TREE_CONDITIONS[value[0]]
-    return condition(tree, standing, value)
+    return is_built(tree, standing, value) and is_open(tree, standing, value)
 
 
 def built_deeds(tree, standing, word):
     """All deeds of this word that are built right in standing, ascending."""
-    if word == "begin":
+    shape = TREE_DEED_SHAPES[word]
+    if shape == ():
         return [(word,)]
-    nodes = [0] + nodes_of(tree) if least_node(word) == 0 else nodes_of(tree)
-    if word == "hear":
-        return [(word, node, end) for node in nodes for end in ENDS]
-    if word != "fall":
+    nodes = range(least_node(word), len(tree[1]) + 1)
+    if shape == ("node",):
         return [(word, node) for node in nodes]
+    if shape == ("node", "end"):
+        return [(word, node, end) for node in nodes for end in ENDS]
     sites = standing[0]
     return [(word, node, kept) for node in nodes for kept in range(sites[node][2], len(sites[node][1]) + 1)]
 
@@ -166,7 +172,7 @@ def open_tree(tree, standing):
     """All deeds that can be done in standing, ascending."""
     can = []
     for word in sorted(TREE_DEED_SHAPES):
-        can.extend([deed for deed in built_deeds(tree, standing, word) if can_be_done(tree, standing, deed)])
+        can.extend([deed for deed in built_deeds(tree, standing, word) if is_open(tree, standing, deed)])
     return tuple(can)
 
 

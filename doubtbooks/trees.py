@@ -44,9 +44,11 @@ def row_strength(tree, node, row):
     """How surely this node writes this row; the root writes no row prepared."""
     if node == 0:
         begun, committed, aborted = tree[0]
-        return {"begun": begun, "committed": committed, "aborted": aborted}[row]
-    begun, prepared, committed, aborted = entry_of(tree, node)[1:5]
-    return {"begun": begun, "prepared": prepared, "committed": committed, "aborted": aborted}[row]
+        strengths = {"begun": begun, "committed": committed, "aborted": aborted}
+    else:
+        begun, prepared, committed, aborted = entry_of(tree, node)[1:5]
+        strengths = {"begun": begun, "prepared": prepared, "committed": committed, "aborted": aborted}
+    return strengths[row]
 
 
 def entry_error(value, node):

@@ -19,6 +19,11 @@ BARRED_NAMES = set(
 BARRED_WORDS = set(
     "type typing typing_extensions enum Enum IntEnum StrEnum Flag IntFlag Generic Protocol ABC ABCMeta namedtuple "
     "NamedTuple TypedDict TYPE_CHECKING abstractmethod dataclass overload contextmanager".split())
+ALLOWED_METHODS = set(
+    "append clear copy count endswith extend find get index insert isalnum isalpha isdigit islower isspace isupper items join "
+    "keys ljust lower lstrip partition pop remove replace reverse rfind rjust rpartition rsplit rstrip setdefault split "
+    "splitlines startswith strip update upper values zfill bit_length".split())
+OWN_ERRORS = {"DoubtError", "Unfit", "BadProtocol", "BadText", "BadLog", "Refused", "TooMany"}
 BARRED_NODES = (ast.Import, ast.AsyncFunctionDef, ast.AsyncFor, ast.AsyncWith, ast.Await, ast.Div, ast.TryStar)
 
 
@@ -94,6 +99,53 @@ class FormTest(unittest.TestCase):
                     self.assertEqual([target.__class__ for target in node.targets], [ast.Name], name)
                     for part in ast.walk(node.value):
                         self.assertNotIsInstance(part, (ast.Call, ast.ListComp, ast.DictComp, ast.Set, ast.Lambda), name)
+
+    def test_tables_name_functions_of_their_file(self):
+        for name, text, tree in files():
+            above = set()
+            for node in tree.body:
+                if isinstance(node, ast.FunctionDef):
+                    above.add(node.name)
+                elif isinstance(node, ast.Assign):
+                    named = {part.id for part in ast.walk(node.value) if isinstance(part, ast.Name)}
+                    self.assertLessEqual(named, above, name)
+                    for part in ast.walk(node.value):
+                        if isinstance(part, (ast.Dict, ast.List, ast.Tuple)) and part is not node.value:
+                            self.assertIsInstance(part, ast.Tuple, name)
+
+    def test_classes(self):
+        attributes = set()
+        for name, text, tree in files():
+            for node in [node for node in tree.body if isinstance(node, ast.ClassDef)]:
+                methods = [part for part in node.body if not isinstance(part, ast.Expr)]
+                own = {part.name for part in methods if isinstance(part, ast.FunctionDef)}
+                self.assertEqual(len(own), len(methods), node.name)
+                self.assertEqual({method for method in own if method.startswith("_")} - {"__init__"}, set())
+                stored = {part.attr for part in ast.walk(node) if isinstance(part, ast.Attribute)
+                          and isinstance(part.ctx, ast.Store)}
+                self.assertEqual(own & stored, set(), node.name)
+                self.assertEqual((own | stored) & ALLOWED_METHODS, set(), node.name)
+                attributes |= own | stored
+        # What is read of an object is something of its class, or a method of a value.
+        for name, text, tree in files():
+            read = {node.attr for node in ast.walk(tree) if isinstance(node, ast.Attribute)}
+            self.assertLessEqual(read, attributes | ALLOWED_METHODS | {"add"}, name)
+
+    def test_errors_that_are_raised_and_caught(self):
+        for name, text, tree in files():
+            for node in ast.walk(tree):
+                if isinstance(node, ast.ExceptHandler):
+                    self.assertIn(node.type.id, OWN_ERRORS, name)
+                    self.assertIsNone(node.name, name)
+                if isinstance(node, ast.Raise):
+                    self.assertIn(node.exc.func.id, OWN_ERRORS, name)
+                    self.assertEqual(node.exc.keywords, [], name)
+
+    def test_nothing_of_a_table_is_called_at_once(self):
+        for name, text, tree in files():
+            for node in ast.walk(tree):
+                if isinstance(node, ast.Call):
+                    self.assertIsInstance(node.func, (ast.Name, ast.Attribute), name)
 
     def test_names(self):
         known = set(dir(builtins))

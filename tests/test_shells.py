@@ -323,6 +323,16 @@ class LineTest(ShellCase):
             ("told x", "commit"), ("fall 0 0", "done"), ("splits", "none"), ("do x ask 0", "done"), ("do x hear 0 abort", "done"),
             ("told x", "both"), ("splits", "x"), ("enter w", "done"), ("splits", "x"), ("told w", "none")])
 
+    def test_splits_of_many(self):
+        shell = shell_of("protocol " + protocol_text(WEAK), "enter x", "enter b", "enter 7", "enter c")
+        for name in ("x", "7", "c"):
+            for deed in VOTES:
+                shell.say(f"do {name} " + run_text((deed,)))
+        self.said(shell, [("splits", "none"), ("fall 0 0", "done")])
+        for name in ("x", "c", "7"):
+            self.said(shell, [(f"do {name} ask 1", "done"), (f"do {name} hear 1 abort", "done")])
+        self.said(shell, [("splits", "7 c x"), ("names", "x b 7 c")])
+
     def test_open(self):
         shell = shell_of("way presumed_abort 1", "enter a")
         self.said(shell, [
@@ -531,11 +541,11 @@ class HoldsTest(ShellCase):
         for number in range(0, 1001):
             answer = Shell().say(f"way presumed_abort {number}")
             self.assertEqual(answer, "safe" if 1 <= number <= 6 else "what" if number > 999 else "error Unfit")
-        for figures in itertools.product("0123456789+-_. ", repeat=2):
-            word = "".join(figures)
-            answer = Shell().say("way presumed_abort " + word)
-            right = word.isdigit() and word[0] != "0"
-            self.assertEqual(answer, "error Unfit" if right else "what", word)
+        signs = "".join(chr(code) for code in range(32, 127))
+        for word in list(signs) + ["".join(pair) for pair in itertools.product(signs, repeat=2)]:
+            answer = Shell().say("log " + word)
+            right = word.isdigit() and (word[0] != "0" or word == "0")
+            self.assertEqual(answer, "no manager" if right else "what", word)
 
 
 if __name__ == "__main__":

@@ -473,6 +473,12 @@ class RefusedTest(TreeCase):
             for end in ENDS:
                 self.cannot(CHAIN, deeds, ("hear", 0, end))
 
+    def test_words_of_letters_are_no_ends(self):
+        for deeds in (FULL_UP[:1], FULL_UP[:5], FULL_UP, FULL_COMMIT, FULL_COMMIT + (("hear", 1, "commit"), ("hear", 4, "commit"))):
+            for node, word in led_tree(FULL, deeds)[1]:
+                if word not in ENDS:
+                    self.refused(FULL, led_tree(FULL, deeds), ("hear", node, word))
+
     def test_deeds_of_protocols(self):
         for deed in (("quit",), ("stop", 0), ("read", 2), ("restore", 2), ("fall", 0), ("forward",)):
             self.refused(FULL, led_tree(FULL, FULL_UP[:2]), deed)
